@@ -1,13 +1,16 @@
 package ray
 
-import "couplant/api"
+import (
+	"couplant/api"
+	"couplant/check"
+)
 
 // CriticalSquare returns the sine squared beyond which nothing passes.
 func CriticalSquare(first, second int) (api.Frac, api.Errno) {
-	e := firstError(
-		speedError(first),
-		speedError(second),
-		unless(first < second, api.ErrNone),
+	e := check.First(
+		check.Speed(first),
+		check.Speed(second),
+		check.Unless(first < second, api.ErrNone),
 	)
 	if e != api.OK {
 		return api.Frac{}, e
@@ -17,7 +20,7 @@ func CriticalSquare(first, second int) (api.Frac, api.Errno) {
 
 // Passes returns whether a direction passes from one speed to another one.
 func Passes(direction [2]int, first, second int) (bool, api.Errno) {
-	e := firstError(directionError(direction), speedError(first), speedError(second))
+	e := check.First(directionError(direction), check.Speed(first), check.Speed(second))
 	if e != api.OK {
 		return false, e
 	}
@@ -28,7 +31,7 @@ func Passes(direction [2]int, first, second int) (bool, api.Errno) {
 // BehindSquare returns the sine squared of a direction behind the plane.
 func BehindSquare(direction [2]int, first, second int) (api.Frac, api.Errno) {
 	passes, e := Passes(direction, first, second)
-	if e = firstError(e, unless(passes, api.ErrNone)); e != api.OK {
+	if e = check.First(e, check.Unless(passes, api.ErrNone)); e != api.OK {
 		return api.Frac{}, e
 	}
 	f := lowestTerms(behind(direction, first, second))
@@ -48,7 +51,7 @@ func behind(direction [2]int, first, second int) (num, den int) {
 
 // SteepWithin returns whether a direction is as steep as two limits ask.
 func SteepWithin(direction [2]int, least, most api.Frac) (bool, api.Errno) {
-	e := firstError(directionError(direction), steepError(least), steepError(most))
+	e := check.First(directionError(direction), steepError(least), steepError(most))
 	if e != api.OK {
 		return false, e
 	}

@@ -4,6 +4,7 @@ import (
 	"sort"
 
 	"couplant/api"
+	"couplant/check"
 )
 
 // perUnit is the picoseconds in a unit of places at a speed of 1, perLength
@@ -56,7 +57,7 @@ func (c crossing) reach() (first, last int) {
 
 func (c crossing) reachError(at int) api.Errno {
 	first, last := c.reach()
-	return unless(isWithin(at, first, last), api.ErrRange)
+	return check.Within(at, first, last)
 }
 
 // slope returns the sign of the slope at a place of the crossing. Both of its

@@ -1,20 +1,23 @@
 package ray
 
-import "couplant/api"
+import (
+	"couplant/api"
+	"couplant/check"
+)
 
 // CheckMode returns the error of a mode.
 func CheckMode(m api.RayMode) api.Errno {
-	return firstError(
-		speedError(m.Wedge),
-		speedError(m.Metal),
-		unless(isWithin(m.Skips, 0, api.MaxSkips), api.ErrRange),
+	return check.First(
+		check.Speed(m.Wedge),
+		check.Speed(m.Metal),
+		check.Within(m.Skips, 0, api.MaxSkips),
 		thickError(m.Thick),
 	)
 }
 
 // Unfolded returns the unfolded depth of z.
 func Unfolded(m api.RayMode, z int) (int, api.Errno) {
-	if e := firstError(CheckMode(m), depthError(z, m.Thick)); e != api.OK {
+	if e := check.First(CheckMode(m), depthError(z, m.Thick)); e != api.OK {
 		return 0, e
 	}
 	return unfoldedDepth(m, z), api.OK
@@ -29,7 +32,7 @@ func unfoldedDepth(m api.RayMode, z int) int {
 
 // CrossOf returns the crossing of a mode.
 func CrossOf(m api.RayMode, from, to api.Spot) (api.RayCross, api.Errno) {
-	if e := firstError(CheckMode(m), wayError(m, from, to)); e != api.OK {
+	if e := check.First(CheckMode(m), wayError(m, from, to)); e != api.OK {
 		return api.RayCross{}, e
 	}
 	return api.RayCross{
@@ -73,14 +76,14 @@ func Walls(m api.RayMode, from, to api.Spot) ([]api.Range, api.Errno) {
 
 // TurnedTime returns the least time of a turn at the back wall.
 func TurnedTime(x api.RayTurn) (api.Range, api.Errno) {
-	e := firstError(
-		placeError(x.From),
-		placeError(x.To),
+	e := check.First(
+		check.Place(x.From),
+		check.Place(x.To),
 		thickError(x.Thick),
 		turnedError(x.From, x.Thick),
 		turnedError(x.To, x.Thick),
-		speedError(x.First),
-		speedError(x.Second),
+		check.Speed(x.First),
+		check.Speed(x.Second),
 	)
 	if e != api.OK {
 		return api.Range{}, e
@@ -100,12 +103,12 @@ func turnedError(p api.Spot, thick int) api.Errno {
 
 // EchoTime returns the least time to a place and back from it.
 func EchoTime(x api.RayEcho) (api.Range, api.Errno) {
-	if e := firstError(CheckMode(x.Out), CheckMode(x.Back)); e != api.OK {
+	if e := check.First(CheckMode(x.Out), CheckMode(x.Back)); e != api.OK {
 		return api.Range{}, e
 	}
 	out, first := LeastTime(x.Out, x.From, x.At)
 	back, second := LeastTime(x.Back, x.To, x.At)
-	if e := firstError(first, second); e != api.OK {
+	if e := check.First(first, second); e != api.OK {
 		return api.Range{}, e
 	}
 	return sumOf(out, back), api.OK
@@ -114,10 +117,7 @@ func EchoTime(x api.RayEcho) (api.Range, api.Errno) {
 // MayBeFirst returns the numbers of the modes whose least time may be the
 // least of all.
 func MayBeFirst(l []api.RayMode, from, to api.Spot) ([]int, api.Errno) {
-	if e := firstError(
-		unless(len(l) > 0, api.ErrShape),
-		unless(len(l) <= api.MaxRayModes, api.ErrLarge),
-	); e != api.OK {
+	if e := check.Count(len(l), api.MaxRayModes); e != api.OK {
 		return nil, e
 	}
 	var times []api.Range

@@ -3,11 +3,14 @@
 // another speed behind the back wall. Times are enclosures in picoseconds.
 package ray
 
-import "couplant/api"
+import (
+	"couplant/api"
+	"couplant/check"
+)
 
 // Length returns the length from a to b, in thousandths of a unit of places.
 func Length(a, b api.Spot) (api.Range, api.Errno) {
-	if e := firstError(placeError(a), placeError(b)); e != api.OK {
+	if e := check.First(check.Place(a), check.Place(b)); e != api.OK {
 		return api.Range{}, e
 	}
 	return lengthBetween(a, b), api.OK
@@ -15,7 +18,7 @@ func Length(a, b api.Spot) (api.Range, api.Errno) {
 
 // TimeOf returns how long sound takes from a to b at one speed.
 func TimeOf(a, b api.Spot, speed int) (api.Range, api.Errno) {
-	if e := firstError(placeError(a), placeError(b), speedError(speed)); e != api.OK {
+	if e := check.First(check.Place(a), check.Place(b), check.Speed(speed)); e != api.OK {
 		return api.Range{}, e
 	}
 	return timeOfLength(lengthBetween(a, b), speed), api.OK
@@ -23,20 +26,20 @@ func TimeOf(a, b api.Spot, speed int) (api.Range, api.Errno) {
 
 // CheckCross returns the error of a crossing.
 func CheckCross(x api.RayCross) api.Errno {
-	return firstError(
-		unless(isWithin(x.X1, -api.MaxPlace, api.MaxPlace), api.ErrRange),
-		unless(isWithin(x.X2, -api.MaxPlace, api.MaxPlace), api.ErrRange),
-		unless(isWithin(x.H1, 1, api.MaxPlace), api.ErrRange),
-		unless(isWithin(x.H2, 1, api.MaxPlace), api.ErrRange),
-		speedError(x.V1),
-		speedError(x.V2),
+	return check.First(
+		check.Within(x.X1, -api.MaxPlace, api.MaxPlace),
+		check.Within(x.X2, -api.MaxPlace, api.MaxPlace),
+		check.Within(x.H1, 1, api.MaxPlace),
+		check.Within(x.H2, 1, api.MaxPlace),
+		check.Speed(x.V1),
+		check.Speed(x.V2),
 	)
 }
 
 // SlopeAt returns the sign of the slope of a crossing at a place.
 func SlopeAt(x api.RayCross, at int) (int, api.Errno) {
 	c := crossingOf(x)
-	if e := firstError(CheckCross(x), c.reachError(at)); e != api.OK {
+	if e := check.First(CheckCross(x), c.reachError(at)); e != api.OK {
 		return 0, e
 	}
 	return c.slope(at), api.OK
@@ -45,7 +48,7 @@ func SlopeAt(x api.RayCross, at int) (int, api.Errno) {
 // TimeAt returns the time of a crossing at a place.
 func TimeAt(x api.RayCross, at int) (api.Range, api.Errno) {
 	c := crossingOf(x)
-	if e := firstError(CheckCross(x), c.reachError(at)); e != api.OK {
+	if e := check.First(CheckCross(x), c.reachError(at)); e != api.OK {
 		return api.Range{}, e
 	}
 	return c.timeAt(at), api.OK
@@ -63,7 +66,7 @@ func Crossing(x api.RayCross) (int, api.Errno) {
 // the next place alone.
 func CheckCrossing(x api.RayCross, at int) api.Errno {
 	c := crossingOf(x)
-	if e := firstError(CheckCross(x), c.reachError(at)); e != api.OK {
+	if e := check.First(CheckCross(x), c.reachError(at)); e != api.OK {
 		return e
 	}
 	_, last := c.reach()
