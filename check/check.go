@@ -2,7 +2,10 @@
 // arguments is the first one.
 package check
 
-import "couplant/api"
+import (
+	"couplant/api"
+	"couplant/whole"
+)
 
 // First returns the first of several errors, OK if there is none.
 func First(errors ...api.Errno) api.Errno {
@@ -58,4 +61,10 @@ func Place(p api.Spot) api.Errno {
 // Speed returns the error of a speed.
 func Speed(v int) api.Errno {
 	return Within(v, api.LeastSpeed, api.MaxSpeed)
+}
+
+// Lowest returns ErrForm for a fraction that is not in lowest terms with Den
+// above 0, whatever its numbers are.
+func Lowest(f api.Frac) api.Errno {
+	return Unless(f.Den > 0 && whole.CommonDivisor(f.Num, f.Den) == 1, api.ErrForm)
 }

@@ -61,3 +61,26 @@ func TestLimitsIncludeTheirEnds(t *testing.T) {
 		expect(t, x.what, x.e, x.want)
 	}
 }
+
+func TestFractionsAreInLowestTerms(t *testing.T) {
+	for _, x := range []struct {
+		f    api.Frac
+		want api.Errno
+	}{
+		{api.Frac{Num: 3, Den: 2}, api.OK},
+		{api.Frac{Num: -3, Den: 2}, api.OK},
+		{api.Frac{Num: 0, Den: 1}, api.OK},
+		{api.Frac{Num: math.MinInt, Den: 1}, api.OK},
+		{api.Frac{Num: math.MinInt, Den: math.MaxInt}, api.OK},
+		{api.Frac{Num: math.MinInt, Den: 6}, api.ErrForm},
+		{api.Frac{Num: 0, Den: 2}, api.ErrForm},
+		{api.Frac{Num: 6, Den: 4}, api.ErrForm},
+		{api.Frac{Num: -6, Den: 4}, api.ErrForm},
+		{api.Frac{Num: 1, Den: 0}, api.ErrForm},
+		{api.Frac{Num: 0, Den: 0}, api.ErrForm},
+		{api.Frac{Num: 3, Den: -2}, api.ErrForm},
+		{api.Frac{Num: -1, Den: math.MinInt}, api.ErrForm},
+	} {
+		expect(t, "Lowest", check.Lowest(x.f), x.want)
+	}
+}

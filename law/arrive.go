@@ -7,6 +7,7 @@ import (
 	"couplant/api"
 	"couplant/check"
 	"couplant/ray"
+	"couplant/whole"
 )
 
 // Arrivals returns when the sound of each element that sends is at a place.
@@ -66,7 +67,7 @@ func LossOf(spread, period int) (int, api.Errno) {
 	// A spread of a period loses all already; the square of a longer one might
 	// not fit into a word.
 	spread = min(spread, period)
-	return min(divideUp(5000*spread*spread, period*period), 1000), api.OK
+	return min(whole.DivideUp(5000*spread*spread, period*period), 1000), api.OK
 }
 
 // BestAt returns the number of the place at which a law has the least spread.

@@ -5,6 +5,7 @@ import (
 
 	"couplant/api"
 	"couplant/check"
+	"couplant/whole"
 )
 
 // Without returns a law in which some elements do not send.
@@ -100,7 +101,7 @@ func Recast(l api.DelayLaw, clock int) (api.DelayLaw, api.Errno) {
 	if e := check.First(lawError(l), clockError(clock)); e != api.OK {
 		return api.DelayLaw{}, e
 	}
-	r, e := changed(l, func(_, ticks int) int { return rounded(ticks*l.Clock, clock) })
+	r, e := changed(l, func(_, ticks int) int { return whole.Nearest(ticks*l.Clock, clock) })
 	if e != api.OK {
 		return api.DelayLaw{}, e
 	}

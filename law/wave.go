@@ -3,6 +3,7 @@ package law
 import (
 	"couplant/api"
 	"couplant/check"
+	"couplant/whole"
 )
 
 // GratingFree returns whether a pitch has no grating lobe with a turn.
@@ -24,7 +25,7 @@ func SteepestFree(x api.LawPitch) (api.Frac, api.Errno) {
 	if pitch > wave {
 		return api.Frac{}, api.ErrNone
 	}
-	return lowestTerms(min(wave-pitch, pitch), pitch), api.OK
+	return whole.LowestTerms(min(wave-pitch, pitch), pitch), api.OK
 }
 
 // pitchAndWave returns a pitch and its wave length, both times the frequency.
@@ -42,7 +43,7 @@ func NearField(aperture, speed, kilohertz int) (api.Range, api.Errno) {
 		return api.Range{}, e
 	}
 	num, den := aperture*aperture*kilohertz, 400*speed
-	return api.Range{Lo: num / den, Hi: divideUp(num, den)}, api.OK
+	return api.Range{Lo: num / den, Hi: whole.DivideUp(num, den)}, api.OK
 }
 
 func pitchError(x api.LawPitch) api.Errno {
@@ -57,14 +58,4 @@ func waveError(speed, kilohertz int) api.Errno {
 		check.Speed(speed),
 		check.Within(kilohertz, 1, api.MaxKilohertz),
 	)
-}
-
-// lowestTerms returns num / den in lowest terms; num is not below 0, and den
-// above 0.
-func lowestTerms(num, den int) api.Frac {
-	divisor, rest := den, num
-	for rest != 0 {
-		divisor, rest = rest, divisor%rest
-	}
-	return api.Frac{Num: num / divisor, Den: den / divisor}
 }

@@ -3,6 +3,7 @@ package ray
 import (
 	"couplant/api"
 	"couplant/check"
+	"couplant/whole"
 )
 
 // CriticalSquare returns the sine squared beyond which nothing passes.
@@ -15,7 +16,7 @@ func CriticalSquare(first, second int) (api.Frac, api.Errno) {
 	if e != api.OK {
 		return api.Frac{}, e
 	}
-	return lowestTerms(first*first, second*second), api.OK
+	return whole.LowestTerms(first*first, second*second), api.OK
 }
 
 // Passes returns whether a direction passes from one speed to another one.
@@ -34,7 +35,7 @@ func BehindSquare(direction [2]int, first, second int) (api.Frac, api.Errno) {
 	if e = check.First(e, check.Unless(passes, api.ErrNone)); e != api.OK {
 		return api.Frac{}, e
 	}
-	f := lowestTerms(behind(direction, first, second))
+	f := whole.LowestTerms(behind(direction, first, second))
 	if f.Num > api.MaxPart || f.Den > api.MaxPart {
 		return api.Frac{}, api.ErrLarge
 	}
@@ -58,6 +59,6 @@ func SteepWithin(direction [2]int, least, most api.Frac) (bool, api.Errno) {
 	if least.Num*most.Den > most.Num*least.Den {
 		return false, api.ErrOrder
 	}
-	across, down := int(sizeOf(direction[0])), direction[1]
+	across, down := int(whole.SizeOf(direction[0])), direction[1]
 	return least.Num*down <= across*least.Den && across*most.Den <= most.Num*down, api.OK
 }

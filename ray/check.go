@@ -31,13 +31,10 @@ func directionError(direction [2]int) api.Errno {
 	)
 }
 
-// steepError returns the error of a limit of steepness. It accepts any
-// numbers: what is too large may not overflow here.
+// steepError returns the error of a limit of steepness.
 func steepError(f api.Frac) api.Errno {
-	if f.Den <= 0 || commonDivisor(f.Num, f.Den) != 1 {
-		return api.ErrForm
-	}
 	return check.First(
+		check.Lowest(f),
 		check.Within(f.Num, 0, api.MaxPart),
 		check.Within(f.Den, 1, api.MaxPart),
 	)

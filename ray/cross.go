@@ -5,6 +5,7 @@ import (
 
 	"couplant/api"
 	"couplant/check"
+	"couplant/whole"
 )
 
 // perUnit is the picoseconds in a unit of places at a speed of 1, perLength
@@ -35,14 +36,14 @@ func lengthBetween(a, b api.Spot) api.Range {
 	}
 	x, z := b.X-a.X, b.Z-a.Z
 	square := 1000000 * (x*x + z*z)
-	return api.Range{Lo: rootDown(square), Hi: rootUp(square)}
+	return api.Range{Lo: whole.RootDown(square), Hi: whole.RootUp(square)}
 }
 
 // timeOfLength returns the time of a length at a speed.
 func timeOfLength(l api.Range, speed int) api.Range {
 	return api.Range{
-		Lo: divideDown(l.Lo*perLength, speed),
-		Hi: divideUp(l.Hi*perLength, speed),
+		Lo: whole.DivideDown(l.Lo*perLength, speed),
+		Hi: whole.DivideUp(l.Hi*perLength, speed),
 	}
 }
 
@@ -92,7 +93,7 @@ func (c crossing) fastest() int {
 
 // bound returns by how much less than at whole places the time may be between.
 func (c crossing) bound() int {
-	return divideUp(perUnit, c.v1*c.h1) + divideUp(perUnit, c.v2*c.h2)
+	return whole.DivideUp(perUnit, c.v1*c.h1) + whole.DivideUp(perUnit, c.v2*c.h2)
 }
 
 func (c crossing) leastTime() api.Range {

@@ -3,6 +3,7 @@ package ray
 import (
 	"couplant/api"
 	"couplant/check"
+	"couplant/whole"
 )
 
 // CheckMode returns the error of a mode.
@@ -53,7 +54,7 @@ func LeastTime(m api.RayMode, from, to api.Spot) (api.Range, api.Errno) {
 // RoundedTime returns the middle of the least time, rounded down.
 func RoundedTime(m api.RayMode, from, to api.Spot) (int, api.Errno) {
 	t, e := LeastTime(m, from, to)
-	return divideDown(t.Lo+t.Hi, 2), e
+	return whole.DivideDown(t.Lo+t.Hi, 2), e
 }
 
 // Walls returns where the walls are met, in their order.
@@ -67,8 +68,8 @@ func Walls(m api.RayMode, from, to api.Spot) ([]api.Range, api.Errno) {
 	for j := 1; j <= m.Skips; j++ {
 		across := (x.X2 - at) * j * m.Thick
 		walls = append(walls, api.Range{
-			Lo: at + divideDown(across, x.H2),
-			Hi: at + divideUp(across, x.H2),
+			Lo: at + whole.DivideDown(across, x.H2),
+			Hi: at + whole.DivideUp(across, x.H2),
 		})
 	}
 	return walls, api.OK
