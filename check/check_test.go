@@ -51,6 +51,8 @@ func TestLimitsIncludeTheirEnds(t *testing.T) {
 		{"corner", check.Place(api.Spot{X: 100000, Z: -100000}), api.OK},
 		{"other corner", check.Place(api.Spot{X: -100000, Z: 100000}), api.OK},
 		{"X above", check.Place(api.Spot{X: 100001}), api.ErrRange},
+		{"X below", check.Place(api.Spot{X: -100001}), api.ErrRange},
+		{"Z above", check.Place(api.Spot{Z: 100001}), api.ErrRange},
 		{"Z below", check.Place(api.Spot{Z: -100001}), api.ErrRange},
 		{"least X", check.Place(api.Spot{X: math.MinInt}), api.ErrRange},
 		{"least speed", check.Speed(500), api.OK},
