@@ -50,12 +50,40 @@ func Count(n, most int) api.Errno {
 	)
 }
 
+// Item returns ErrMissing for the number of an item that is not there, of so
+// many.
+func Item(n, count int) api.Errno {
+	return Unless(0 <= n && n < count, api.ErrMissing)
+}
+
+// Pair returns ErrMissing for a pair of which an element is not there, of so
+// many.
+func Pair(pair [2]int, elements int) api.Errno {
+	return First(Item(pair[0], elements), Item(pair[1], elements))
+}
+
+// Elements returns the error of the elements of an array in the wedge, and the
+// number of the one that has it.
+func Elements(l []api.Spot) (int, api.Errno) {
+	if e := Count(len(l), api.MaxElements); e != api.OK {
+		return 0, e
+	}
+	return Each(l, func(_ int, p api.Spot) api.Errno {
+		return First(Place(p), Unless(p.Z < 0, api.ErrKind))
+	})
+}
+
 // Place returns the error of a place, wherever it may be.
 func Place(p api.Spot) api.Errno {
 	return First(
 		Within(p.X, -api.MaxPlace, api.MaxPlace),
 		Within(p.Z, -api.MaxPlace, api.MaxPlace),
 	)
+}
+
+// Depth returns ErrBreak for a depth that is not inside of a plate.
+func Depth(z, thick int) api.Errno {
+	return Unless(0 < z && z < thick, api.ErrBreak)
 }
 
 // Speed returns the error of a speed.

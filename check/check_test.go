@@ -55,12 +55,49 @@ func TestLimitsIncludeTheirEnds(t *testing.T) {
 		{"Z above", check.Place(api.Spot{Z: 100001}), api.ErrRange},
 		{"Z below", check.Place(api.Spot{Z: -100001}), api.ErrRange},
 		{"least X", check.Place(api.Spot{X: math.MinInt}), api.ErrRange},
+		{"upper depth", check.Depth(1, 20), api.OK},
+		{"lower depth", check.Depth(19, 20), api.OK},
+		{"the surface", check.Depth(0, 20), api.ErrBreak},
+		{"the back wall", check.Depth(20, 20), api.ErrBreak},
+		{"the wedge", check.Depth(math.MinInt, 20), api.ErrBreak},
 		{"least speed", check.Speed(500), api.OK},
 		{"greatest speed", check.Speed(10000), api.OK},
 		{"slow", check.Speed(499), api.ErrRange},
 		{"fast", check.Speed(10001), api.ErrRange},
 	} {
 		expect(t, x.what, x.e, x.want)
+	}
+}
+
+func TestWhatIsNotThereIsMissing(t *testing.T) {
+	for n, want := range map[int]api.Errno{
+		0: api.OK, 2: api.OK, -1: api.ErrMissing, 3: api.ErrMissing, math.MinInt: api.ErrMissing, math.MaxInt: api.ErrMissing,
+	} {
+		expect(t, "item", check.Item(n, 3), want)
+		expect(t, "firing", check.Pair([2]int{n, 0}, 3), want)
+		expect(t, "receiver", check.Pair([2]int{2, n}, 3), want)
+	}
+	expect(t, "no item", check.Item(0, 0), api.ErrMissing)
+}
+
+func TestElementsLieInTheWedge(t *testing.T) {
+	for _, x := range []struct {
+		l    []api.Spot
+		n    int
+		want api.Errno
+	}{
+		{[]api.Spot{{Z: -1}, {X: 100000, Z: -100000}}, 0, api.OK},
+		{make([]api.Spot, 0), 0, api.ErrShape},
+		{make([]api.Spot, 17), 0, api.ErrLarge},
+		{make([]api.Spot, 16), 0, api.ErrKind},
+		{[]api.Spot{{Z: -1}, {Z: 0}, {X: 100001}}, 1, api.ErrKind},
+		{[]api.Spot{{Z: -1}, {X: 100001}, {Z: 0}}, 1, api.ErrRange},
+		{[]api.Spot{{Z: -100001}}, 0, api.ErrRange},
+	} {
+		n, e := check.Elements(x.l)
+		if n != x.n || e != x.want {
+			t.Errorf("%v: %d, error %d", x.l, n, e)
+		}
 	}
 }
 

@@ -14,8 +14,7 @@ func Without(l api.DelayLaw, dead []int) (api.DelayLaw, api.Errno) {
 		return api.DelayLaw{}, e
 	}
 	_, e := check.Each(dead, func(n, element int) api.Errno {
-		isThere := 0 <= element && element < len(l.Ticks)
-		return check.First(check.Unless(isThere, api.ErrMissing), ascendError(dead, n))
+		return check.First(check.Item(element, len(l.Ticks)), ascendError(dead, n))
 	})
 	if e != api.OK {
 		return api.DelayLaw{}, e

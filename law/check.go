@@ -9,12 +9,7 @@ import (
 // CheckArray returns the error of an array, and the number of the element that
 // has it.
 func CheckArray(a api.LawArray) (int, api.Errno) {
-	if e := check.Count(len(a.Elements), api.MaxElements); e != api.OK {
-		return 0, e
-	}
-	n, e := check.Each(a.Elements, func(_ int, p api.Spot) api.Errno {
-		return check.First(check.Place(p), check.Unless(p.Z < 0, api.ErrKind))
-	})
+	n, e := check.Elements(a.Elements)
 	return n, check.First(e, ray.CheckMode(a.Mode), clockError(a.Clock))
 }
 

@@ -6,10 +6,11 @@ import (
 
 	"couplant/api"
 	"couplant/check"
+	"couplant/text"
 )
 
-// maxWord is the greatest number that a text may have, of 9 digits.
-const maxWord = 999999999
+// maxDigits is how many digits a number of a text may have.
+const maxDigits = 9
 
 // FormatLaw returns the text of a law, right or not.
 func FormatLaw(l api.DelayLaw) string {
@@ -35,7 +36,7 @@ func ParseLaw(s string) (api.DelayLaw, api.Errno) {
 }
 
 func lawOfWords(words []string) (l api.DelayLaw, isLaw bool) {
-	clock, isLaw := numberOf(words[0])
+	clock, isLaw := text.Number(words[0], maxDigits)
 	l.Clock = clock
 	for _, word := range words[1:] {
 		ticks, isTicks := ticksOf(word)
@@ -49,13 +50,6 @@ func ticksOf(word string) (ticks int, isTicks bool) {
 	if word == "-" {
 		return silent, true
 	}
-	n, isNumber := numberOf(word)
+	n, isNumber := text.Number(word, maxDigits)
 	return n, isNumber && n >= 0
-}
-
-// numberOf reads a number. The library takes more forms than a text may have,
-// but writes just the one that it may.
-func numberOf(word string) (n int, isNumber bool) {
-	n, err := strconv.Atoi(word)
-	return n, err == nil && -maxWord <= n && n <= maxWord && strconv.Itoa(n) == word
 }

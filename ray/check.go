@@ -9,18 +9,13 @@ func thickError(thick int) api.Errno {
 	return check.Within(thick, 2, api.MaxRayThick)
 }
 
-// depthError returns ErrBreak for a depth that is not inside of a plate.
-func depthError(z, thick int) api.Errno {
-	return check.Unless(0 < z && z < thick, api.ErrBreak)
-}
-
 // wayError returns the error of a way of a mode that is right.
 func wayError(m api.RayMode, from, to api.Spot) api.Errno {
 	return check.First(
 		check.Place(from),
 		check.Place(to),
 		check.Unless(from.Z < 0, api.ErrKind),
-		depthError(to.Z, m.Thick),
+		check.Depth(to.Z, m.Thick),
 	)
 }
 

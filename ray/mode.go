@@ -18,7 +18,7 @@ func CheckMode(m api.RayMode) api.Errno {
 
 // Unfolded returns the unfolded depth of z.
 func Unfolded(m api.RayMode, z int) (int, api.Errno) {
-	if e := check.First(CheckMode(m), depthError(z, m.Thick)); e != api.OK {
+	if e := check.First(CheckMode(m), check.Depth(z, m.Thick)); e != api.OK {
 		return 0, e
 	}
 	return unfoldedDepth(m, z), api.OK
@@ -99,7 +99,7 @@ func turnedError(p api.Spot, thick int) api.Errno {
 	if p.Z == 0 {
 		return api.OK
 	}
-	return depthError(p.Z, thick)
+	return check.Depth(p.Z, thick)
 }
 
 // EchoTime returns the least time to a place and back from it.

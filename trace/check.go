@@ -63,16 +63,6 @@ func matrixError(m api.FullMatrix) api.Errno {
 	return e
 }
 
-// pairError returns the error of a pair of a matrix of some elements.
-func pairError(pair [2]int, elements int) api.Errno {
-	for _, element := range pair {
-		if element < 0 || element >= elements {
-			return api.ErrMissing
-		}
-	}
-	return api.OK
-}
-
 func gateError(g api.TraceGate) api.Errno {
 	return check.First(
 		check.Within(g.From, 0, lastAnalytic),

@@ -55,7 +55,7 @@ func turned(pair [2]int) [2]int {
 
 // TraceOf returns the trace of a pair.
 func TraceOf(m api.FullMatrix, pair [2]int) (api.Trace, api.Errno) {
-	if e := check.First(matrixError(m), pairError(pair, m.Elements)); e != api.OK {
+	if e := check.First(matrixError(m), check.Pair(pair, m.Elements)); e != api.OK {
 		return api.Trace{}, e
 	}
 	return matrix(m).trace(pair), api.OK
@@ -63,7 +63,7 @@ func TraceOf(m api.FullMatrix, pair [2]int) (api.Trace, api.Errno) {
 
 // With returns a matrix with another trace of a pair.
 func With(m api.FullMatrix, pair [2]int, t api.Trace) (api.FullMatrix, api.Errno) {
-	e := check.First(matrixError(m), pairError(pair, m.Elements), traceError(t))
+	e := check.First(matrixError(m), check.Pair(pair, m.Elements), traceError(t))
 	if e != api.OK {
 		return api.FullMatrix{}, e
 	}
