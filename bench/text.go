@@ -1,7 +1,6 @@
 package bench
 
 import (
-	"strconv"
 	"strings"
 
 	"couplant/api"
@@ -24,69 +23,37 @@ const (
 // kindWords are the words of the kinds of flaws, by their numbers.
 var kindWords = [...]string{api.BenchPore: "pore", api.BenchPlane: "plane"}
 
-// form is the form of a line: a word, and numbers behind it. These are written
-// from where they are kept, and read to there.
-type form struct {
-	word    string
-	numbers []*int
+// form returns the form of a line of a specimen.
+func form(word string, numbers ...*int) text.Form {
+	return text.Form{Word: word, Digits: maxDigits, Numbers: numbers}
 }
 
-func timesForm(s *api.Sampling) form {
-	return form{timesWord, []*int{&s.First, &s.Step}}
+func timesForm(s *api.Sampling) text.Form {
+	return form(timesWord, &s.First, &s.Step)
 }
 
-func modeForm(word string, m *api.RayMode) form {
-	return form{word, []*int{&m.Wedge, &m.Metal, &m.Skips, &m.Thick}}
+func modeForm(word string, m *api.RayMode) text.Form {
+	return form(word, &m.Wedge, &m.Metal, &m.Skips, &m.Thick)
 }
 
-func elementForm(p *api.Spot) form {
-	return form{elementWord, []*int{&p.X, &p.Z}}
+func elementForm(p *api.Spot) text.Form {
+	return form(elementWord, &p.X, &p.Z)
 }
 
-func pulseForm(pulse []int) form {
-	x := form{word: pulseWord}
-	for k := range pulse {
-		x.numbers = append(x.numbers, &pulse[k])
-	}
-	return x
+func pulseForm(pulse []int) text.Form {
+	return form(pulseWord, text.Places(pulse)...)
 }
 
 // flawForm returns the form of a flaw of a kind that there is.
-func flawForm(f *api.BenchFlaw) form {
-	numbers := []*int{&f.From.X, &f.From.Z, &f.Amplitude}
+func flawForm(f *api.BenchFlaw) text.Form {
+	word := kindWords[f.Kind]
 	if f.Kind == api.BenchPlane {
-		numbers = []*int{
-			&f.From.X, &f.From.Z, &f.To.X, &f.To.Z,
+		return form(
+			word, &f.From.X, &f.From.Z, &f.To.X, &f.To.Z,
 			&f.Pieces, &f.Amplitude, &f.Tip,
-		}
+		)
 	}
-	return form{kindWords[f.Kind], numbers}
-}
-
-// write returns the line, without its line feed.
-func (x form) write() string {
-	words := []string{x.word}
-	for _, n := range x.numbers {
-		words = append(words, strconv.Itoa(*n))
-	}
-	return strings.Join(words, " ")
-}
-
-// read sets the numbers to those of a line, and returns whether this has the
-// form.
-func (x form) read(line string) bool {
-	words := strings.Split(line, " ")
-	if words[0] != x.word || len(words[1:]) != len(x.numbers) {
-		return false
-	}
-	for k, word := range words[1:] {
-		n, isNumber := text.Number(word, maxDigits)
-		if !isNumber {
-			return false
-		}
-		*x.numbers[k] = n
-	}
-	return true
+	return form(word, &f.From.X, &f.From.Z, &f.Amplitude)
 }
 
 // FormatFlaw returns the text of a flaw, right or not.
@@ -94,7 +61,7 @@ func FormatFlaw(f api.BenchFlaw) string {
 	if check.Item(f.Kind, len(kindWords)) != api.OK {
 		return ""
 	}
-	return flawForm(&f).write()
+	return flawForm(&f).Write()
 }
 
 // ParseFlaw returns the flaw with a text.
@@ -110,7 +77,7 @@ func ParseFlaw(s string) (api.BenchFlaw, api.Errno) {
 func flawOf(s string) (f api.BenchFlaw, isFlaw bool) {
 	for kind := range kindWords {
 		f = api.BenchFlaw{Kind: kind}
-		if flawForm(&f).read(s) {
+		if flawForm(&f).Read(s) {
 			return f, true
 		}
 	}
@@ -122,24 +89,19 @@ func Print(s api.BenchSpecimen) (string, api.Errno) {
 	if e := specimenError(s); e != api.OK {
 		return "", e
 	}
-	forms := []form{
+	lines := []text.Form{
 		timesForm(&s.Array.Times),
 		modeForm(outWord, &s.Array.Out),
 		modeForm(backWord, &s.Array.Back),
 	}
 	for _, p := range s.Array.Elements {
-		forms = append(forms, elementForm(&p))
+		lines = append(lines, elementForm(&p))
 	}
-	forms = append(forms, pulseForm(s.Pulse))
+	lines = append(lines, pulseForm(s.Pulse))
 	for _, f := range s.Flaws {
-		forms = append(forms, flawForm(&f))
+		lines = append(lines, flawForm(&f))
 	}
-	var b strings.Builder
-	for _, x := range forms {
-		b.WriteString(x.write())
-		b.WriteString("\n")
-	}
-	return b.String(), api.OK
+	return text.Print(lines), api.OK
 }
 
 // Parse returns the specimen with a text; or its error, and the number of the
@@ -161,53 +123,26 @@ func Parse(t string) (api.BenchSpecimen, int, api.Errno) {
 // specimenWith returns the specimen with a text, right or not, and the number
 // of the first line that has not its form, or 0.
 func specimenWith(t string) (s api.BenchSpecimen, wrong int) {
-	r := reader{rest: t}
-	r.take(timesForm(&s.Array.Times).read)
-	r.take(modeForm(outWord, &s.Array.Out).read)
-	r.take(modeForm(backWord, &s.Array.Back).read)
-	for r.isAt(elementWord) {
+	lines := text.LinesOf(t)
+	lines.Take(timesForm(&s.Array.Times).Read)
+	lines.Take(modeForm(outWord, &s.Array.Out).Read)
+	lines.Take(modeForm(backWord, &s.Array.Back).Read)
+	for lines.IsAt(elementWord) {
 		var p api.Spot
-		r.take(elementForm(&p).read)
+		lines.Take(elementForm(&p).Read)
 		s.Array.Elements = append(s.Array.Elements, p)
 	}
-	r.take(func(line string) bool {
+	lines.Take(func(line string) bool {
 		// A pulse without numbers is wrong, too.
 		s.Pulse = make([]int, max(1, strings.Count(line, " ")))
-		return pulseForm(s.Pulse).read(line)
+		return pulseForm(s.Pulse).Read(line)
 	})
-	for r.rest != "" {
-		r.take(func(line string) bool {
+	for !lines.IsEnd() {
+		lines.Take(func(line string) bool {
 			f, isFlaw := flawOf(line)
 			s.Flaws = append(s.Flaws, f)
 			return isFlaw
 		})
 	}
-	return s, r.wrong
-}
-
-// reader takes the lines of a text one by one, up to the first one that is
-// wrong.
-type reader struct {
-	rest  string
-	taken int
-	wrong int
-}
-
-// isAt returns whether the next line begins with a word.
-func (r *reader) isAt(word string) bool {
-	return strings.HasPrefix(r.rest, word+" ")
-}
-
-// take takes the next line, if it is there and can be read; otherwise it is the
-// wrong one, and nothing is left to be taken.
-func (r *reader) take(read func(line string) bool) {
-	if r.wrong > 0 {
-		return
-	}
-	line, rest, isLine := strings.Cut(r.rest, "\n")
-	r.taken++
-	if !isLine || !read(line) {
-		r.wrong, rest = r.taken, ""
-	}
-	r.rest = rest
+	return s, lines.Wrong()
 }

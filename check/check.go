@@ -62,6 +62,20 @@ func Pair(pair [2]int, elements int) api.Errno {
 	return First(Item(pair[0], elements), Item(pair[1], elements))
 }
 
+// Ascends returns ErrOrder for the number n of a list, if it is not greater than
+// the one before.
+func Ascends(l []int, n int) api.Errno {
+	return Unless(n == 0 || l[n-1] < l[n], api.ErrOrder)
+}
+
+// Dead returns the error of the numbers of dead elements, of so many.
+func Dead(dead []int, elements int) api.Errno {
+	_, e := Each(dead, func(n, element int) api.Errno {
+		return First(Item(element, elements), Ascends(dead, n))
+	})
+	return e
+}
+
 // Elements returns the error of the elements of an array in the wedge, and the
 // number of the one that has it.
 func Elements(l []api.Spot) (int, api.Errno) {

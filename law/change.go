@@ -10,12 +10,7 @@ import (
 
 // Without returns a law in which some elements do not send.
 func Without(l api.DelayLaw, dead []int) (api.DelayLaw, api.Errno) {
-	if e := lawError(l); e != api.OK {
-		return api.DelayLaw{}, e
-	}
-	_, e := check.Each(dead, func(n, element int) api.Errno {
-		return check.First(check.Item(element, len(l.Ticks)), ascendError(dead, n))
-	})
+	e := check.First(lawError(l), check.Dead(dead, len(l.Ticks)))
 	if e != api.OK {
 		return api.DelayLaw{}, e
 	}

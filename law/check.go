@@ -73,13 +73,7 @@ func clockError(clock int) api.Errno {
 
 func clocksError(clocks []int) api.Errno {
 	_, e := check.Each(clocks, func(n, clock int) api.Errno {
-		return check.First(clockError(clock), ascendError(clocks, n))
+		return check.First(clockError(clock), check.Ascends(clocks, n))
 	})
 	return check.First(check.Count(len(clocks), api.MaxFoci), e)
-}
-
-// ascendError returns the error of a number of a list that is not greater than
-// the one before.
-func ascendError(l []int, n int) api.Errno {
-	return check.Unless(n == 0 || l[n-1] < l[n], api.ErrOrder)
 }

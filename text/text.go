@@ -1,5 +1,5 @@
-// Package text is no layer: it holds the reading of texts that the layers
-// share.
+// Package text is no layer: it holds what the layers share to read and write the
+// lines of texts, and their numbers.
 package text
 
 import (

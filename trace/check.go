@@ -1,10 +1,9 @@
 package trace
 
 import (
-	"math"
-
 	"couplant/api"
 	"couplant/check"
+	"couplant/whole"
 )
 
 // lastAnalytic is the number of the last analytic sample.
@@ -44,13 +43,9 @@ func samplesOf(elements int) int {
 
 func sampleError(_ int, x float32) api.Errno {
 	return check.First(
-		check.Unless(isWhole(float64(x)), api.ErrWhole),
+		check.Unless(whole.IsWhole(float64(x)), api.ErrWhole),
 		check.Unless(-api.MaxSample <= x && x <= api.MaxSample, api.ErrRange),
 	)
-}
-
-func isWhole(x float64) bool {
-	return x == math.Trunc(x) && !math.IsInf(x, 0)
 }
 
 func traceError(t api.Trace) api.Errno {

@@ -3,6 +3,7 @@
 package whole
 
 import (
+	"math"
 	"math/bits"
 
 	"couplant/api"
@@ -73,4 +74,9 @@ func CommonDivisor(a, b int) uint {
 func LowestTerms(num, den int) api.Frac {
 	d := int(CommonDivisor(num, den))
 	return api.Frac{Num: num / d, Den: den / d}
+}
+
+// IsWhole returns whether a float is a whole number.
+func IsWhole(x float64) bool {
+	return x == math.Trunc(x) && !math.IsInf(x, 0)
 }

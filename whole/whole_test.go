@@ -82,3 +82,12 @@ func TestCommonDivisorsAndLowestTerms(t *testing.T) {
 		expect(t, "LowestTerms", whole.LowestTerms(x.num, x.den), x.want)
 	}
 }
+
+func TestWholeFloats(t *testing.T) {
+	for _, x := range []float64{0, math.Copysign(0, -1), 1, -1, 2047, 1 << 53, -1e300, math.MaxFloat64} {
+		expect(t, "IsWhole", whole.IsWhole(x), true)
+	}
+	for _, x := range []float64{0.5, -0.5, 1.25, 1 << 52 * (1 - 1.0/(1<<53)), 5e-324, math.NaN(), math.Inf(1), math.Inf(-1)} {
+		expect(t, "IsWhole", whole.IsWhole(x), false)
+	}
+}
