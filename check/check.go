@@ -3,6 +3,8 @@
 package check
 
 import (
+	"strings"
+
 	"couplant/api"
 	"couplant/whole"
 )
@@ -30,6 +32,15 @@ func Within(n, least, most int) api.Errno {
 	return Unless(least <= n && n <= most, api.ErrRange)
 }
 
+// Range returns the error of a range whose ends are from least to most.
+func Range(r api.Range, least, most int) api.Errno {
+	return First(
+		Within(r.Lo, least, most),
+		Within(r.Hi, least, most),
+		Unless(r.Lo <= r.Hi, api.ErrOrder),
+	)
+}
+
 // Each returns the number and the error of the first item of a list that has
 // one; wrong tells the error of an item, with its number.
 func Each[T any](list []T, wrong func(n int, item T) api.Errno) (int, api.Errno) {
@@ -39,6 +50,22 @@ func Each[T any](list []T, wrong func(n int, item T) api.Errno) (int, api.Errno)
 		}
 	}
 	return 0, api.OK
+}
+
+// Name returns ErrName for a text that is no name.
+func Name(s string) api.Errno {
+	isSized := 1 <= len(s) && len(s) <= api.MaxName
+	return Unless(isSized && isLetter(rune(s[0])) && !strings.ContainsFunc(s, isForeign), api.ErrName)
+}
+
+func isLetter(r rune) bool {
+	return 'A' <= r && r <= 'Z' || 'a' <= r && r <= 'z'
+}
+
+// isForeign returns whether a character may stand nowhere in a name.
+func isForeign(r rune) bool {
+	isDigit := '0' <= r && r <= '9'
+	return !isLetter(r) && !isDigit && r != '-'
 }
 
 // Count returns the error of how many items a list has, where there must be

@@ -2,6 +2,7 @@ package check_test
 
 import (
 	"math"
+	"strings"
 	"testing"
 
 	"couplant/api"
@@ -66,6 +67,38 @@ func TestLimitsIncludeTheirEnds(t *testing.T) {
 		{"fast", check.Speed(10001), api.ErrRange},
 	} {
 		expect(t, x.what, x.e, x.want)
+	}
+}
+
+func TestRangesHaveTheirEndsInOrder(t *testing.T) {
+	for _, x := range []struct {
+		r    api.Range
+		want api.Errno
+	}{
+		{api.Range{Lo: -3, Hi: 5}, api.OK},
+		{api.Range{Lo: 5, Hi: 5}, api.OK},
+		{api.Range{Lo: -4, Hi: 5}, api.ErrRange},
+		{api.Range{Lo: -3, Hi: 6}, api.ErrRange},
+		{api.Range{Lo: 6, Hi: -4}, api.ErrRange},
+		{api.Range{Lo: 6, Hi: 5}, api.ErrRange},
+		{api.Range{Lo: 0, Hi: -4}, api.ErrRange},
+		{api.Range{Lo: math.MaxInt, Hi: math.MinInt}, api.ErrRange},
+		{api.Range{Lo: 5, Hi: 4}, api.ErrOrder},
+		{api.Range{Lo: 5, Hi: -3}, api.ErrOrder},
+	} {
+		expect(t, "Range", check.Range(x.r, -3, 5), x.want)
+	}
+}
+
+func TestNames(t *testing.T) {
+	for _, s := range []string{"a", "z", "A", "Z", "wedge", "a-", "b0", "Z9-9-z", "abcdefghijkl", "a-----------"} {
+		expect(t, s, check.Name(s), api.OK)
+	}
+	for _, s := range []string{
+		"", "-", "-a", "0", "9a", "abcdefghijklm", "a b", " a", "a ", "a\n", "a_", "a.", "a/", "a:", "a@", "a[", "a`", "a{",
+		"@", "[", "`", "{", "\u00e9", "a\u00e9", "a\u0661", "a\x00", "a\xff", "\xff", "\xc1", strings.Repeat("a", 100000),
+	} {
+		expect(t, s, check.Name(s), api.ErrName)
 	}
 }
 

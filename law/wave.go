@@ -42,8 +42,7 @@ func NearField(aperture, speed, kilohertz int) (api.Range, api.Errno) {
 	if e != api.OK {
 		return api.Range{}, e
 	}
-	num, den := aperture*aperture*kilohertz, 400*speed
-	return api.Range{Lo: num / den, Hi: whole.DivideUp(num, den)}, api.OK
+	return whole.Enclosed(aperture*aperture*kilohertz, 400*speed), api.OK
 }
 
 func pitchError(x api.LawPitch) api.Errno {

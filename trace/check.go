@@ -59,11 +59,7 @@ func matrixError(m api.FullMatrix) api.Errno {
 }
 
 func gateError(g api.TraceGate) api.Errno {
-	return check.First(
-		check.Within(g.From, 0, lastAnalytic),
-		check.Within(g.To, 0, lastAnalytic),
-		check.Unless(g.From <= g.To, api.ErrOrder),
-	)
+	return check.Range(api.Range{Lo: g.From, Hi: g.To}, 0, lastAnalytic)
 }
 
 func gainError(gain api.Frac) api.Errno {
@@ -72,10 +68,6 @@ func gainError(gain api.Frac) api.Errno {
 		check.Within(gain.Num, 0, api.MaxGain),
 		check.Within(gain.Den, 1, api.MaxGain),
 	)
-}
-
-func timeError(time int) api.Errno {
-	return check.Within(time, -api.MaxTime, api.MaxTime)
 }
 
 func positionError(position int) api.Errno {

@@ -19,7 +19,7 @@ func TimeOf(s api.Sampling, sample int) (int, api.Errno) {
 
 // Nearest returns the sample whose time is nearest.
 func Nearest(s api.Sampling, time int) (int, api.Errno) {
-	if e := check.First(CheckSampling(s), timeError(time)); e != api.OK {
+	if e := check.First(CheckSampling(s), check.Within(time, -api.MaxTime, api.MaxTime)); e != api.OK {
 		return 0, e
 	}
 	sample := whole.Nearest(time-s.First, s.Step)
@@ -33,9 +33,7 @@ func Nearest(s api.Sampling, time int) (int, api.Errno) {
 func GateOf(s api.Sampling, times api.Range) (api.TraceGate, api.Errno) {
 	e := check.First(
 		CheckSampling(s),
-		timeError(times.Lo),
-		timeError(times.Hi),
-		check.Unless(times.Lo <= times.Hi, api.ErrOrder),
+		check.Range(times, -api.MaxTime, api.MaxTime),
 	)
 	if e != api.OK {
 		return api.TraceGate{}, e

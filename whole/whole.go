@@ -27,6 +27,11 @@ func DivideUp(a, b int) int {
 	return q
 }
 
+// Enclosed returns a / b, rounded down and up; b is above 0.
+func Enclosed(a, b int) api.Range {
+	return api.Range{Lo: DivideDown(a, b), Hi: DivideUp(a, b)}
+}
+
 // Nearest returns a / b, rounded to the nearest whole number, halves up; b is
 // above 0.
 func Nearest(a, b int) int {

@@ -27,6 +27,7 @@ func TestQuotientsAreRounded(t *testing.T) {
 			r := big.NewRat(int64(a), int64(b))
 			expect(t, "DivideDown", whole.DivideDown(a, b), down(r))
 			expect(t, "DivideUp", whole.DivideUp(a, b), -down(new(big.Rat).Neg(r)))
+			expect(t, "Enclosed", whole.Enclosed(a, b), api.Range{Lo: down(r), Hi: -down(new(big.Rat).Neg(r))})
 			expect(t, "Nearest", whole.Nearest(a, b), down(new(big.Rat).Add(r, big.NewRat(1, 2))))
 		}
 	}
