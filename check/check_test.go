@@ -1,6 +1,7 @@
 package check_test
 
 import (
+	"fmt"
 	"math"
 	"strings"
 	"testing"
@@ -98,7 +99,7 @@ func TestNames(t *testing.T) {
 		"", "-", "-a", "0", "9a", "abcdefghijklm", "a b", " a", "a ", "a\n", "a_", "a.", "a/", "a:", "a@", "a[", "a`", "a{",
 		"@", "[", "`", "{", "\u00e9", "a\u00e9", "a\u0661", "a\x00", "a\xff", "\xff", "\xc1", strings.Repeat("a", 100000),
 	} {
-		expect(t, s, check.Name(s), api.ErrName)
+		expect(t, fmt.Sprintf("%.20q", s), check.Name(s), api.ErrName)
 	}
 }
 

@@ -58,6 +58,7 @@ func TestRootsAreRounded(t *testing.T) {
 func TestSizes(t *testing.T) {
 	expect(t, "above", whole.SizeOf(7), 7)
 	expect(t, "below", whole.SizeOf(-7), 7)
+	expect(t, "just below", whole.SizeOf(-1), 1)
 	expect(t, "none", whole.SizeOf(0), 0)
 	expect(t, "the least", whole.SizeOf(math.MinInt), 1<<63)
 	expect(t, "the greatest", whole.SizeOf(math.MaxInt), 1<<63-1)
