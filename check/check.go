@@ -3,6 +3,7 @@
 package check
 
 import (
+	"slices"
 	"strings"
 
 	"couplant/api"
@@ -66,6 +67,13 @@ func isLetter(r rune) bool {
 func isForeign(r rune) bool {
 	isDigit := '0' <= r && r <= '9'
 	return !isLetter(r) && !isDigit && r != '-'
+}
+
+// Fresh returns ErrExists for the item n of a list, if an earlier one has its
+// name; nameOf tells the name of an item.
+func Fresh[T any](list []T, n int, nameOf func(item T) string) api.Errno {
+	hasName := func(earlier T) bool { return nameOf(earlier) == nameOf(list[n]) }
+	return Unless(!slices.ContainsFunc(list[:n], hasName), api.ErrExists)
 }
 
 // Count returns the error of how many items a list has, where there must be
@@ -136,4 +144,14 @@ func Speed(v int) api.Errno {
 // above 0, whatever its numbers are.
 func Lowest(f api.Frac) api.Errno {
 	return Unless(f.Den > 0 && whole.CommonDivisor(f.Num, f.Den) == 1, api.ErrForm)
+}
+
+// Ratio returns the error of a fraction that may not be below 0, and whose parts
+// are at most so great.
+func Ratio(f api.Frac, most int) api.Errno {
+	return First(
+		Lowest(f),
+		Within(f.Num, 0, most),
+		Within(f.Den, 1, most),
+	)
 }

@@ -103,6 +103,16 @@ func TestNames(t *testing.T) {
 	}
 }
 
+func TestNamesOfItemsAreFresh(t *testing.T) {
+	list := []string{"a", "b", "a", "c", "b", "a", ""}
+	for n, want := range []api.Errno{api.OK, api.OK, api.ErrExists, api.OK, api.ErrExists, api.ErrExists, api.OK} {
+		e := check.Fresh(list, n, func(item string) string { return item })
+		expect(t, fmt.Sprint("the item ", n), e, want)
+	}
+	e := check.Fresh([]int{11, 12, 21}, 2, func(item int) string { return fmt.Sprint(item % 10) })
+	expect(t, "the name of an item", e, api.ErrExists)
+}
+
 func TestWhatIsNotThereIsMissing(t *testing.T) {
 	for n, want := range map[int]api.Errno{
 		0: api.OK, 2: api.OK, -1: api.ErrMissing, 3: api.ErrMissing, math.MinInt: api.ErrMissing, math.MaxInt: api.ErrMissing,
@@ -172,5 +182,27 @@ func TestFractionsAreInLowestTerms(t *testing.T) {
 		{api.Frac{Num: -1, Den: math.MinInt}, api.ErrForm},
 	} {
 		expect(t, "Lowest", check.Lowest(x.f), x.want)
+	}
+}
+
+func TestRatiosAreNotBelow0(t *testing.T) {
+	for _, x := range []struct {
+		f    api.Frac
+		want api.Errno
+	}{
+		{api.Frac{Num: 0, Den: 1}, api.OK},
+		{api.Frac{Num: 9, Den: 10}, api.OK},
+		{api.Frac{Num: 10, Den: 9}, api.OK},
+		{api.Frac{Num: -1, Den: 10}, api.ErrRange},
+		{api.Frac{Num: 11, Den: 10}, api.ErrRange},
+		{api.Frac{Num: 10, Den: 11}, api.ErrRange},
+		{api.Frac{Num: math.MinInt, Den: 1}, api.ErrRange},
+		{api.Frac{Num: 1, Den: math.MaxInt}, api.ErrRange},
+		{api.Frac{Num: 0, Den: 0}, api.ErrForm},
+		{api.Frac{Num: 22, Den: 20}, api.ErrForm},
+		{api.Frac{Num: -2, Den: 2}, api.ErrForm},
+		{api.Frac{Num: 1, Den: -1}, api.ErrForm},
+	} {
+		expect(t, "Ratio", check.Ratio(x.f, 10), x.want)
 	}
 }

@@ -52,7 +52,11 @@ func behind(direction [2]int, first, second int) (num, den int) {
 
 // SteepWithin returns whether a direction is as steep as two limits ask.
 func SteepWithin(direction [2]int, least, most api.Frac) (bool, api.Errno) {
-	e := check.First(directionError(direction), steepError(least), steepError(most))
+	e := check.First(
+		directionError(direction),
+		check.Ratio(least, api.MaxPart),
+		check.Ratio(most, api.MaxPart),
+	)
 	if e != api.OK {
 		return false, e
 	}

@@ -25,12 +25,3 @@ func directionError(direction [2]int) api.Errno {
 		check.Within(direction[1], 1, api.MaxDirection),
 	)
 }
-
-// steepError returns the error of a limit of steepness.
-func steepError(f api.Frac) api.Errno {
-	return check.First(
-		check.Lowest(f),
-		check.Within(f.Num, 0, api.MaxPart),
-		check.Within(f.Den, 1, api.MaxPart),
-	)
-}

@@ -66,12 +66,14 @@ func (c crossing) reachError(at int) api.Errno {
 // these are compared without their quotients, and need more than one word.
 func (c crossing) slope(at int) int {
 	a, b := at-c.x1, c.x2-at
-	first := wideProduct(a*a*c.v2*c.v2, b*b+c.h2*c.h2)
-	second := wideProduct(b*b*c.v1*c.v1, a*a+c.h1*c.h1)
+	sign := whole.CompareProducts(
+		a*a*c.v2*c.v2, b*b+c.h2*c.h2,
+		b*b*c.v1*c.v1, a*a+c.h1*c.h1,
+	)
 	if c.x1 > c.x2 {
-		return second.compare(first)
+		return -sign
 	}
-	return first.compare(second)
+	return sign
 }
 
 // timeAt returns the time of both legs at a place of the crossing.

@@ -63,11 +63,7 @@ func gateError(g api.TraceGate) api.Errno {
 }
 
 func gainError(gain api.Frac) api.Errno {
-	return check.First(
-		check.Lowest(gain),
-		check.Within(gain.Num, 0, api.MaxGain),
-		check.Within(gain.Den, 1, api.MaxGain),
-	)
+	return check.Ratio(gain, api.MaxGain)
 }
 
 func positionError(position int) api.Errno {

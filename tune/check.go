@@ -1,8 +1,6 @@
 package tune
 
 import (
-	"slices"
-
 	"couplant/api"
 	"couplant/check"
 )
@@ -47,16 +45,17 @@ func CheckSteps(l []api.TuneStep) (int, api.Errno) {
 		return 0, e
 	}
 	return check.Each(l, func(n int, s api.TuneStep) api.Errno {
-		hasName := func(earlier api.TuneStep) bool { return earlier.Name == s.Name }
 		return check.First(
 			check.Name(s.Name),
-			check.Unless(!slices.ContainsFunc(l[:n], hasName), api.ErrExists),
+			check.Fresh(l, n, stepName),
 			check.Within(s.Lasts, 1, api.MaxTuneLasts),
 			check.Within(s.Warm, 0, api.MaxTuneWarm),
 			needsError(s.Needs, n),
 		)
 	})
 }
+
+func stepName(s api.TuneStep) string { return s.Name }
 
 // needsError returns the error of the numbers of steps that a step needs, of so
 // many earlier ones.

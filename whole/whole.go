@@ -3,6 +3,7 @@
 package whole
 
 import (
+	"cmp"
 	"math"
 	"math/bits"
 
@@ -64,6 +65,14 @@ func SizeOf(n int) uint {
 		return -uint(n)
 	}
 	return uint(n)
+}
+
+// CompareProducts compares a b with c d, none of these numbers below 0; the
+// products need not fit into a word.
+func CompareProducts(a, b, c, d int) int {
+	high, low := bits.Mul64(uint64(a), uint64(b))
+	otherHigh, otherLow := bits.Mul64(uint64(c), uint64(d))
+	return cmp.Or(cmp.Compare(high, otherHigh), cmp.Compare(low, otherLow))
 }
 
 // CommonDivisor returns the greatest number that divides both a and b.

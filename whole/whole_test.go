@@ -64,6 +64,20 @@ func TestSizes(t *testing.T) {
 	expect(t, "the greatest", whole.SizeOf(math.MaxInt), 1<<63-1)
 }
 
+func TestProductsAreCompared(t *testing.T) {
+	numbers := []int{0, 1, 2, 3, 7, 1 << 31, 1<<32 - 1, 1 << 32, 1<<32 + 1, 1 << 62, math.MaxInt - 1, math.MaxInt}
+	product := func(a, b int) *big.Int { return new(big.Int).Mul(big.NewInt(int64(a)), big.NewInt(int64(b))) }
+	for _, a := range numbers {
+		for _, b := range numbers {
+			for _, c := range numbers {
+				for _, d := range numbers {
+					expect(t, "CompareProducts", whole.CompareProducts(a, b, c, d), product(a, b).Cmp(product(c, d)))
+				}
+			}
+		}
+	}
+}
+
 func TestCommonDivisorsAndLowestTerms(t *testing.T) {
 	for _, x := range []struct {
 		a, b int
