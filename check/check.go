@@ -103,10 +103,11 @@ func Ascends(l []int, n int) api.Errno {
 	return Unless(n == 0 || l[n-1] < l[n], api.ErrOrder)
 }
 
-// Dead returns the error of the numbers of dead elements, of so many.
-func Dead(dead []int, elements int) api.Errno {
-	_, e := Each(dead, func(n, element int) api.Errno {
-		return First(Item(element, elements), Ascends(dead, n))
+// Numbers returns the error of the numbers of items, of so many, that are to
+// ascend.
+func Numbers(l []int, count int) api.Errno {
+	_, e := Each(l, func(n, item int) api.Errno {
+		return First(Item(item, count), Ascends(l, n))
 	})
 	return e
 }

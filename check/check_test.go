@@ -124,9 +124,9 @@ func TestWhatIsNotThereIsMissing(t *testing.T) {
 	expect(t, "no item", check.Item(0, 0), api.ErrMissing)
 }
 
-func TestNumbersOfDeadElementsAscend(t *testing.T) {
+func TestNumbersOfItemsAscend(t *testing.T) {
 	for _, x := range []struct {
-		dead []int
+		l    []int
 		want api.Errno
 	}{
 		{nil, api.OK}, {[]int{0}, api.OK}, {[]int{2}, api.OK}, {[]int{0, 1, 2}, api.OK}, {[]int{0, 2}, api.OK},
@@ -134,7 +134,7 @@ func TestNumbersOfDeadElementsAscend(t *testing.T) {
 		{[]int{1, 1}, api.ErrOrder}, {[]int{1, 0}, api.ErrOrder}, {[]int{0, 2, 1}, api.ErrOrder},
 		{[]int{1, 1, 3}, api.ErrOrder}, {[]int{3, 1, 1}, api.ErrMissing}, {[]int{1, -1}, api.ErrMissing},
 	} {
-		expect(t, "Dead", check.Dead(x.dead, 3), x.want)
+		expect(t, "Numbers", check.Numbers(x.l, 3), x.want)
 	}
 	for n, want := range []api.Errno{api.OK, api.OK, api.ErrOrder, api.ErrOrder, api.OK} {
 		expect(t, "Ascends", check.Ascends([]int{-1, 5, 5, 4, math.MaxInt}, n), want)

@@ -20,9 +20,9 @@ const (
 	faceWord  = "face"
 )
 
-// setupForm returns the form of the numbers of a set-up.
+// setupForm returns the form of the text of a set-up.
 func setupForm(s *api.CoverSetup) text.Form {
-	return text.Form{Digits: maxDigits, Numbers: []*int{
+	return text.Form{Name: &s.Name, Digits: maxDigits, Numbers: []*int{
 		&s.At, &s.Side, &s.Legs,
 		&s.Least.Num, &s.Least.Den,
 		&s.Most.Num, &s.Most.Den,
@@ -32,20 +32,12 @@ func setupForm(s *api.CoverSetup) text.Form {
 
 // FormatSetup returns the text of a set-up, right or not.
 func FormatSetup(s api.CoverSetup) string {
-	return s.Name + " " + setupForm(&s).Write()
+	return setupForm(&s).Write()
 }
 
 // ParseSetup returns the set-up with a text.
 func ParseSetup(s string) (api.CoverSetup, api.Errno) {
-	var x api.CoverSetup
-	name, numbers, _ := strings.Cut(s, " ")
-	x.Name = name
-	isSetup := !strings.Contains(name, "\n") && setupForm(&x).Read(numbers)
-	e := check.First(check.Unless(isSetup, api.ErrSyntax), CheckSetup(x))
-	if e != api.OK {
-		return api.CoverSetup{}, e
-	}
-	return x, api.OK
+	return text.Parse(s, setupForm, CheckSetup)
 }
 
 // slot is the place of a word in a line: how the word is written, and how one is

@@ -16,7 +16,7 @@ func lives(dead []int) func(pair [2]int) bool {
 
 // deadError returns the error of a task and of its dead elements.
 func deadError(t api.FocusTask, dead []int) api.Errno {
-	return check.First(taskError(t), check.Dead(dead, len(t.Array.Elements)))
+	return check.First(taskError(t), check.Numbers(dead, len(t.Array.Elements)))
 }
 
 // Coverage returns for each cell how many pairs without a dead element have a

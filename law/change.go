@@ -10,7 +10,7 @@ import (
 
 // Without returns a law in which some elements do not send.
 func Without(l api.DelayLaw, dead []int) (api.DelayLaw, api.Errno) {
-	e := check.First(lawError(l), check.Dead(dead, len(l.Ticks)))
+	e := check.First(lawError(l), check.Numbers(dead, len(l.Ticks)))
 	if e != api.OK {
 		return api.DelayLaw{}, e
 	}

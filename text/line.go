@@ -3,12 +3,17 @@ package text
 import (
 	"strconv"
 	"strings"
+
+	"couplant/api"
 )
 
-// Form is the form of a line: a word, if it has one, and numbers of at most so
-// many digits. These are written from where they are kept, and read to there.
+// Form is the form of a line: a word, if it has one, a name, if it has one, and
+// numbers of at most so many digits. Names and numbers are written from where
+// they are kept, and read to there. A name is any bytes but blanks and line
+// feeds, also none.
 type Form struct {
 	Word    string
+	Name    *string
 	Digits  int
 	Numbers []*int
 }
@@ -28,24 +33,33 @@ func (f Form) Write() string {
 	if f.Word != "" {
 		words = append(words, f.Word)
 	}
+	if f.Name != nil {
+		words = append(words, *f.Name)
+	}
 	for _, n := range f.Numbers {
 		words = append(words, strconv.Itoa(*n))
 	}
 	return strings.Join(words, " ")
 }
 
-// Read sets the numbers to those of a line, and returns whether this has the
-// form.
+// Read sets the name and the numbers to those of a line, and returns whether
+// this has the form.
 func (f Form) Read(line string) bool {
 	words := strings.Split(line, " ")
+	if len(words) != f.count() {
+		return false
+	}
 	if f.Word != "" {
 		if words[0] != f.Word {
 			return false
 		}
 		words = words[1:]
 	}
-	if len(words) != len(f.Numbers) {
-		return false
+	if f.Name != nil {
+		if strings.Contains(words[0], "\n") {
+			return false
+		}
+		*f.Name, words = words[0], words[1:]
 	}
 	for k, word := range words {
 		n, isNumber := Number(word, f.Digits)
@@ -55,6 +69,31 @@ func (f Form) Read(line string) bool {
 		*f.Numbers[k] = n
 	}
 	return true
+}
+
+// Parse returns what a line of some form tells, or its error; formOf tells the
+// form of what is read, and wrong its error.
+func Parse[T any](line string, formOf func(x *T) Form, wrong func(x T) api.Errno) (T, api.Errno) {
+	var x, zero T
+	if !formOf(&x).Read(line) {
+		return zero, api.ErrSyntax
+	}
+	if e := wrong(x); e != api.OK {
+		return zero, e
+	}
+	return x, api.OK
+}
+
+// count returns how many words the line has.
+func (f Form) count() int {
+	count := len(f.Numbers)
+	if f.Word != "" {
+		count++
+	}
+	if f.Name != nil {
+		count++
+	}
+	return count
 }
 
 // Print returns the text of lines, each one with its line feed.

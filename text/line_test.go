@@ -2,8 +2,10 @@ package text_test
 
 import (
 	"fmt"
+	"slices"
 	"testing"
 
+	"couplant/api"
 	"couplant/text"
 )
 
@@ -50,6 +52,60 @@ func TestFormsAreRead(t *testing.T) {
 	}
 }
 
+// named returns the form of lines with a name of their own.
+func named(word string, name *string, numbers []int) text.Form {
+	f := formOf(word, numbers)
+	f.Name = name
+	return f
+}
+
+func TestNamesAreWrittenAndRead(t *testing.T) {
+	for _, x := range []struct {
+		line, word, name string
+		numbers          []int
+	}{
+		{"weld 1 -20", "", "weld", []int{1, -20}},
+		{"step weld 1 -20", "step", "weld", []int{1, -20}},
+		{" 1 -20", "", "", []int{1, -20}},
+		{"step  1 -20", "step", "", []int{1, -20}},
+		{"weld", "", "weld", nil},
+		{"", "", "", nil},
+		{"step ", "step", "", nil},
+		{"7 1", "", "7", []int{1}},
+		{"\ta\r\x00\xff 1", "", "\ta\r\x00\xff", []int{1}},
+	} {
+		if s := named(x.word, &x.name, x.numbers).Write(); s != x.line {
+			t.Errorf("%q; want %q", s, x.line)
+		}
+		name, numbers := "other", make([]int, len(x.numbers))
+		if !named(x.word, &name, numbers).Read(x.line) || name != x.name || !slices.Equal(numbers, x.numbers) {
+			t.Errorf("%q: %q, %v", x.line, name, numbers)
+		}
+	}
+	// What cannot be read can be written.
+	name := "a b\n"
+	if s := named("", &name, []int{1}).Write(); s != "a b\n 1" {
+		t.Errorf("%q", s)
+	}
+}
+
+func TestWhatHasNoNameIsNotRead(t *testing.T) {
+	for _, line := range []string{
+		"", "1", "1 2", "a b 1 2", "a 1 2 3", "a 1", "a  1 2", " a 1 2", "a 1 2 ", "a x 2", "a 1 2\n", "a\n 1 2", "\n 1 2", "\na 1 2", "a\t1 2", "step 1 2 a",
+	} {
+		name := ""
+		if named("", &name, make([]int, 2)).Read(line) {
+			t.Errorf("%q is read", line)
+		}
+	}
+	for _, line := range []string{"a 1 2", "step 1 2", "step a 1", "step a b 1 2", "a step 1 2", "step a\n 1 2", "step\na 1 2"} {
+		name := ""
+		if named("step", &name, make([]int, 2)).Read(line) {
+			t.Errorf("%q is read", line)
+		}
+	}
+}
+
 func TestOtherFormsAreNotRead(t *testing.T) {
 	for _, line := range []string{
 		"", " ", "step", "step 1", "step 1 2 3", "step 1 2 ", " step 1 2", "step  1 2", "steps 1 2", "Step 1 2",
@@ -60,6 +116,27 @@ func TestOtherFormsAreNotRead(t *testing.T) {
 		}
 		if line != "1 2" && formOf("", make([]int, 2)).Read(line) {
 			t.Errorf("%q is read without a word", line)
+		}
+	}
+}
+
+func TestLinesAreParsed(t *testing.T) {
+	type pair struct {
+		name   string
+		number int
+	}
+	formOf := func(x *pair) text.Form {
+		return text.Form{Name: &x.name, Digits: 3, Numbers: []*int{&x.number}}
+	}
+	wrong := func(x pair) api.Errno { return api.Errno(x.number) }
+	for line, want := range map[string]pair{"a 0": {"a", 0}, " 0": {"", 0}} {
+		if x, e := text.Parse(line, formOf, wrong); x != want || e != api.OK {
+			t.Errorf("%q: %v, error %d", line, x, e)
+		}
+	}
+	for line, want := range map[string]api.Errno{"a": api.ErrSyntax, "a x": api.ErrSyntax, "a 7 7": api.ErrSyntax, "a 2": api.ErrRange, "a -7": -7} {
+		if x, e := text.Parse(line, formOf, wrong); x != (pair{}) || e != want {
+			t.Errorf("%q: %v, error %d", line, x, e)
 		}
 	}
 }

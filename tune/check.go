@@ -50,21 +50,12 @@ func CheckSteps(l []api.TuneStep) (int, api.Errno) {
 			check.Fresh(l, n, stepName),
 			check.Within(s.Lasts, 1, api.MaxTuneLasts),
 			check.Within(s.Warm, 0, api.MaxTuneWarm),
-			needsError(s.Needs, n),
+			check.Numbers(s.Needs, n),
 		)
 	})
 }
 
 func stepName(s api.TuneStep) string { return s.Name }
-
-// needsError returns the error of the numbers of steps that a step needs, of so
-// many earlier ones.
-func needsError(needs []int, earlier int) api.Errno {
-	_, e := check.Each(needs, func(n, needed int) api.Errno {
-		return check.First(check.Item(needed, earlier), check.Ascends(needs, n))
-	})
-	return e
-}
 
 // CheckEvents returns the error of the steps of a procedure or of events, and
 // the number of the event that has it.
